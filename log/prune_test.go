@@ -120,7 +120,7 @@ func heap() int {
 	return int(s.HeapAlloc)
 }
 
-// TestPrunedIsForgotten (S1): of what is known no more nothing is kept.
+// TestPrunedIsForgotten (S1): the keys of what is known no more are not kept.
 func TestPrunedIsForgotten(t *testing.T) {
 	l, many := log.New(0), make([]api.Key, 1000)
 	before := heap()
